@@ -1,0 +1,1 @@
+"""Cutnotes: totals along a hierarchy, kept by notes."""

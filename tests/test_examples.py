@@ -1,0 +1,33 @@
+"""The examples of the document that have landed."""
+
+import unittest
+
+from cutnotes.forests import Forest, pairs, row, under, way
+from cutnotes.notes import lacking, point
+from cutnotes.plans import notes_of, plan_of, stack
+
+
+class Examples(unittest.TestCase):
+
+    def setUp(self):
+        self.h = Forest((None, 0, 0, 1), (0, 1, 2, 3), (0, 1, 2, 3))
+        self.s = row(2)
+
+    def test_e01(self):
+        self.assertEqual(way(self.h, 3), (0, 1, 3))
+        self.assertEqual(under(self.h, 1), (1, 3))
+        self.assertEqual(pairs(self.s), [(0, 0), (0, 1), (1, 1)])
+
+    def test_e02(self):
+        self.assertEqual(lacking(self.s, [((0,), (0, 1))]), (1, 1))
+        self.assertEqual(point(self.s, [((0,), (0, 1)), ((1,), (1,))]), ((1, 1), (1, 2)))
+
+    def test_e03(self):
+        self.assertEqual(plan_of(self.h, (1, 0, 2, 3)), (1, 1, 2, 2))
+        self.assertEqual(stack(self.h, (1, 1, 2, 2), 3), (1, 3))
+        self.assertEqual(notes_of(self.h, (1, 1, 2, 2)),
+                         (((0,), (0, 2)), ((0, 1), (1, 3)), ((2,), (2,)), ((3,), (3,))))
+
+
+if __name__ == "__main__":
+    unittest.main()

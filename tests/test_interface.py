@@ -1,0 +1,43 @@
+"""The interface: each name is defined in its own file, with its arguments."""
+
+import ast
+import inspect
+import unittest
+
+from cutnotes import errors, forests, notes, plans
+
+LISTED = {
+    forests: {"Forest": "parents bearing asking", "way": "forest place", "under": "forest place",
+              "pairs": "forest", "row": "places", "is_row": "thing"},
+    notes: {"is_keeper": "forest thing", "is_single": "forest thing", "lacking": "forest notes",
+            "twice": "forest notes", "point": "forest notes"},
+    plans: {"is_plan": "forest thing", "plan_of": "forest cuts", "cuts_of": "forest plan",
+            "stack": "forest plan place", "notes_of": "forest plan"},
+    errors: {"NoteError": None, "BadForest": "part at", "TooMany": "most", "NoAnswer": "place",
+             "BadText": "line", "NoPlace": "", "Stopped": ""},
+}
+
+
+class Interface(unittest.TestCase):
+
+    def test_each_name_is_defined_in_its_file(self):
+        for module, names in LISTED.items():
+            with open(module.__file__, encoding="utf-8") as file:
+                tree = ast.parse(file.read())
+            defined = {node.name for node in tree.body if isinstance(node, (ast.FunctionDef, ast.ClassDef))}
+            self.assertLessEqual(set(names), defined)
+
+    def test_arguments_by_position(self):
+        for module, names in LISTED.items():
+            for name, parameters in names.items():
+                if parameters is not None:
+                    found = inspect.signature(getattr(module, name)).parameters
+                    self.assertEqual(" ".join(found), parameters, name)
+
+    def test_equality_stands_in_forest_itself(self):
+        self.assertIn("__eq__", vars(forests.Forest))
+        self.assertIn("__init__", vars(forests.Forest))
+
+
+if __name__ == "__main__":
+    unittest.main()

@@ -23,3 +23,23 @@ def is_lot(thing):
         if one >= following:
             return False
     return True
+
+
+def is_numbers(thing, many):
+    """Whether a thing is a tuple of so many integers from 0 on."""
+    if not isinstance(thing, tuple) or len(thing) != many:
+        return False
+    for item in thing:
+        if not is_integer(item) or item < 0:
+            return False
+    return True
+
+
+def is_pair_of_numbers(thing, many, most):
+    """Whether a thing is a pair of tuples, each of so many integers, one or more, from 0 to most."""
+    if not isinstance(thing, tuple) or len(thing) != 2:
+        return False
+    for numbers in thing:
+        if not is_numbers(numbers, many) or max(numbers) > most:
+            return False
+    return True

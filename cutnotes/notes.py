@@ -1,6 +1,6 @@
 """Notes of a forest: what they keep, and what they cost each place."""
 
-from cutnotes.errors import NoNotes
+from cutnotes.errors import NoKeeper, NoNotes
 from cutnotes.forests import pairs
 from cutnotes.kinds import is_lot
 
@@ -79,10 +79,21 @@ def twice(forest, notes):
     return _twice(forest, notes)
 
 
+def check_keeper(forest, notes):
+    """Raises the error that is due if these are no notes, or no keeper."""
+    if lacking(forest, notes) is not None:
+        raise NoKeeper()
+
+
 def point(forest, notes):
     """For each place in how many notes it is, among the places and among the asks."""
     if not is_notes(forest, notes):
         raise NoNotes()
+    return point_of(forest, notes)
+
+
+def point_of(forest, notes):
+    """As point, of what is known to be notes."""
     touches = [0] * len(forest.parents)
     reads = [0] * len(forest.parents)
     for places, asks in notes:
@@ -91,3 +102,12 @@ def point(forest, notes):
         for j in asks:
             reads[j] += 1
     return (tuple(touches), tuple(reads))
+
+
+def is_within(one, other):
+    """Whether a point is at no place greater than another one, or than budgets."""
+    for numbers, bounds in zip(one, other):
+        for number, bound in zip(numbers, bounds):
+            if number > bound:
+                return False
+    return True

@@ -44,9 +44,27 @@ def odd_numbers():
     return [-1, -BIG, BIG] + [thing for thing in odd_things()] + [(), [], (0,)]
 
 
+def has_flag(thing):
+    """Whether a key is a flag, or has one within: no dict that is passed has such keys."""
+    return isinstance(thing, bool) or isinstance(thing, tuple) and any(has_flag(part) for part in thing)
+
+
+def can_be_key(thing):
+    try:
+        hash(thing)
+    except TypeError:
+        return False
+    return not has_flag(thing)
+
+
 def spoiled(thing, odd):
     """A thing with each part of it, at each depth, exchanged for the odd one, one at a time."""
     found = [odd]
+    if isinstance(thing, dict):
+        for key, value in thing.items():
+            others = {other: thing[other] for other in thing if other != key}
+            found += [{**others, key: other} for other in spoiled(value, odd)]
+            found += [{**others, other: value} for other in spoiled(key, odd) if can_be_key(other)]
     if isinstance(thing, (list, tuple)):
         kind = type(thing)
         for at, item in enumerate(thing):
@@ -147,3 +165,113 @@ def cut_up(forest, cuts):
 
 def all_cuts(forest):
     return permutations(range(len(forest.parents)))
+
+
+def some_plan(below, forest):
+    plan = []
+    for parent in forest.parents:
+        plan.append(1 if parent is None else 1 + below(plan[parent] + 1))
+    return tuple(plan)
+
+
+def stack_by_words(forest, plan, place):
+    parent = forest.parents[place]
+    if parent is None:
+        return (place,)
+    return stack_by_words(forest, plan, parent)[:plan[place] - 1] + (place,)
+
+
+def notes_by_words(forest, plan):
+    """The notes of a plan by the words of [3.2]."""
+    everywhere = range(len(forest.parents))
+    stacks = [stack_by_words(forest, plan, place) for place in everywhere]
+    found = []
+    for s in everywhere:
+        at = stacks[s].index(s)
+        ahead = stacks[s][at - 1] if at else None
+        places = tuple([i for i in forest.bearing if is_over(forest, i, s) and (
+            ahead is None or i != ahead and is_over(forest, ahead, i))])
+        asks = tuple([j for j in forest.asking if s in stacks[j]])
+        if places and asks:
+            found.append((places, asks))
+    return tuple(found)
+
+
+def point_by_words(forest, notes):
+    """For each place in how many notes it is, among the places and among the asks."""
+    everywhere = range(len(forest.parents))
+    return (tuple([sum(i in places for places, asks in notes) for i in everywhere]),
+            tuple([sum(j in asks for places, asks in notes) for j in everywhere]))
+
+
+def plan_points(forest):
+    """The list of all plans with their points, by the words."""
+    return [(plan, point_by_words(forest, notes_by_words(forest, plan))) for plan in plans_by_words(forest)]
+
+
+def nowhere_greater(one, other):
+    return all(a <= b for part, bounds in zip(one, other) for a, b in zip(part, bounds))
+
+
+def is_piece_by_words(forest, lot):
+    """Whether a lot of places is a piece that can come, by the words of [3.1]."""
+    def way(top, place):
+        return [p for p in range(len(forest.parents)) if is_over(forest, top, p) and is_over(forest, p, place)]
+    return any(all(is_over(forest, top, place) and all(p in lot for p in way(top, place)) for place in lot)
+               for top in lot)
+
+
+def pieces_by_words(forest):
+    return [lot for lot in lots(len(forest.parents)) if is_piece_by_words(forest, lot)]
+
+
+def whole_pieces(forest):
+    """The pieces of all places under each root."""
+    everywhere = range(len(forest.parents))
+    return [tuple([place for place in everywhere if is_over(forest, root, place)])
+            for root in everywhere if forest.parents[root] is None]
+
+
+def cut_piece(forest, piece, s):
+    """The note of the cut at s of a piece, None if there is none, and the pieces that it leaves."""
+    places = tuple([i for i in piece if i in forest.bearing and is_over(forest, i, s)])
+    asks = tuple([j for j in piece if j in forest.asking and is_over(forest, s, j)])
+    rest = tuple([place for place in piece if not is_over(forest, s, place)])
+    left = [tuple([place for place in piece if is_over(forest, child, place)])
+            for child in piece if forest.parents[child] == s]
+    return ((places, asks) if places and asks else None), [part for part in [rest] + left if part]
+
+
+def all_notes(forest):
+    """All notes of a forest."""
+    everywhere = lots(len(forest.parents))
+    served = pairs_by_words(forest)
+    return [(places, asks) for places in everywhere for asks in everywhere
+            if places and asks and all((i, j) in served for i in places for j in asks)]
+
+
+def some_keeper(below, forest, many):
+    """So many notes, by chance, that are a keeper, most of them overlapping."""
+    held = list(notes_by_words(forest, some_plan(below, forest)))
+    served = pairs_by_words(forest)
+    while served and len(held) < many:
+        s = below(len(forest.parents))
+        places = tuple([i for i in forest.bearing if is_over(forest, i, s) and below(4)])
+        asks = tuple([j for j in forest.asking if is_over(forest, s, j) and below(4)])
+        if places and asks:
+            held.insert(below(len(held) + 1), (places, asks))
+        elif not below(3):
+            i, j = served[below(len(served))]
+            held.insert(below(len(held) + 1), ((i,), (j,)))
+    return held
+
+
+def near_numbers(thing, most):
+    """Things near a pair of tuples of numbers from 0 to most, none of which is one."""
+    first, second = thing
+    found = [[first, second], (first,), (first, second, second), (), (second[:-1], second), (first, first[1:]),
+             (first + (0,), second), (first, second + (0,)), (list(first), second), (first, list(second)),
+             {0: first, 1: second}]
+    for wrong in (-1, most + 1, -BIG, BIG, True, False, None, "0", (0,), [0], (), nested(38, "tuple")):
+        found += [((wrong,) + first[1:], second), (first, second[:-1] + (wrong,))]
+    return found

@@ -2,15 +2,19 @@
 
 import unittest
 
+from cutnotes.budgets import plan_within
+from cutnotes.counting import count_plans, plan_at
 from cutnotes.forests import Forest, pairs, row, under, way
 from cutnotes.notes import lacking, point
 from cutnotes.plans import notes_of, plan_of, stack
+from cutnotes.unders import high, low
 
 
 class Examples(unittest.TestCase):
 
     def setUp(self):
         self.h = Forest((None, 0, 0, 1), (0, 1, 2, 3), (0, 1, 2, 3))
+        self.r = row(3)
         self.s = row(2)
 
     def test_e01(self):
@@ -27,6 +31,19 @@ class Examples(unittest.TestCase):
         self.assertEqual(stack(self.h, (1, 1, 2, 2), 3), (1, 3))
         self.assertEqual(notes_of(self.h, (1, 1, 2, 2)),
                          (((0,), (0, 2)), ((0, 1), (1, 3)), ((2,), (2,)), ((3,), (3,))))
+
+    def test_e04(self):
+        self.assertEqual(count_plans(self.h), 10)
+        self.assertEqual(count_plans(self.r), 5)
+        self.assertEqual(plan_at(self.r, 2), (1, 2, 1))
+
+    def test_e05(self):
+        self.assertEqual(high(self.s, [((0,), (0, 1)), ((1,), (1,))]), (0,))
+        self.assertEqual(low(self.s, [((0,), (0, 1)), ((1,), (1,))]), (0, 1))
+
+    def test_e06(self):
+        self.assertEqual(plan_within(self.r, ((1, 2, 1), (1, 2, 2))), (1, 2, 2))
+        self.assertIsNone(plan_within(self.r, ((1, 1, 1), (1, 2, 2))))
 
 
 if __name__ == "__main__":

@@ -4,7 +4,7 @@ import ast
 import inspect
 import unittest
 
-from cutnotes import errors, forests, notes, plans
+from cutnotes import budgets, counting, errors, forests, notes, plans, reaching, unders
 
 LISTED = {
     forests: {"Forest": "parents bearing asking", "way": "forest place", "under": "forest place",
@@ -13,6 +13,12 @@ LISTED = {
             "twice": "forest notes", "point": "forest notes"},
     plans: {"is_plan": "forest thing", "plan_of": "forest cuts", "cuts_of": "forest plan",
             "stack": "forest plan place", "notes_of": "forest plan"},
+    counting: {"count_plans": "forest", "plan_number": "forest plan", "plan_at": "forest number",
+               "all_plans": "forest"},
+    unders: {"high": "forest notes", "low": "forest notes", "under_keeper": "forest notes",
+             "is_under": "forest notes thing"},
+    budgets: {"plan_within": "forest budgets"},
+    reaching: {"reaches": "forest budgets", "is_reaches": "forest budgets thing"},
     errors: {"NoteError": None, "BadForest": "part at", "TooMany": "most", "NoAnswer": "place",
              "BadText": "line", "NoPlace": "", "Stopped": ""},
 }

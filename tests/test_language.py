@@ -25,8 +25,12 @@ METHODS = set((
     "append clear copy count endswith extend find get index insert isalnum isalpha isdigit islower isspace isupper "
     "items join keys ljust lower lstrip partition pop remove replace reverse rfind rjust rpartition rsplit rstrip "
     "setdefault split splitlines startswith strip update upper values zfill bit_length __init__").split())
+# Beside a class with __eq__ no generator expression may stand in any, all and the like; sets are not needed.
 BARRED_NODES = (
-    ast.AsyncFunctionDef, ast.Await, ast.AsyncFor, ast.AsyncWith, ast.Div, ast.MatMult, ast.Global, ast.Import)
+    ast.AsyncFunctionDef, ast.Await, ast.AsyncFor, ast.AsyncWith, ast.Div, ast.MatMult, ast.Global, ast.Import,
+    ast.GeneratorExp, ast.Set, ast.SetComp)
+# What these tell is iterated at once, not kept or passed on.
+AT_ONCE = set("range enumerate zip reversed map items keys values".split())
 
 
 def files():
@@ -121,6 +125,16 @@ class Language(unittest.TestCase):
         for name, node in walked():
             if isinstance(node, ast.Call) and isinstance(node.func, ast.Attribute):
                 self.assertIn(node.func.attr, METHODS | own, (name, node.lineno))
+
+    def test_what_is_iterated_at_once(self):
+        for name, node in walked():
+            given = [node.value] if isinstance(node, (ast.Assign, ast.Return, ast.AugAssign)) else []
+            if isinstance(node, ast.Call) and not (isinstance(node.func, ast.Name) and node.func.id in vars(builtins)):
+                given = node.args
+            for value in given:
+                if isinstance(value, ast.Call):
+                    called = getattr(value.func, "id", getattr(value.func, "attr", None))
+                    self.assertNotIn(called, AT_ONCE, (name, node.lineno))
 
     def test_no_local_name_hides_an_import_or_a_class(self):
         for name, text in files().items():

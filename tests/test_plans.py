@@ -8,8 +8,8 @@ from cutnotes.forests import Forest, is_row, row, way
 from cutnotes.notes import is_single
 from cutnotes.plans import cuts_of, is_plan, notes_of, plan_of, stack
 from common import (
-    BIG, H, LONE, MIXED, S, all_cuts, chance, cut_up, full_forests, is_over, long_forest, nested,
-    odd_numbers, odd_things, plans_by_words, small_forests, some_forest, spoiled)
+    BIG, H, LONE, MIXED, S, all_cuts, chance, cut_up, full_forests, long_forest, nested, notes_by_words,
+    odd_numbers, odd_things, plans_by_words, small_forests, some_forest, some_plan, spoiled, stack_by_words)
 
 
 def mixed_up(below, places):
@@ -19,36 +19,6 @@ def mixed_up(below, places):
         other = below(at + 1)
         order[at], order[other] = order[other], order[at]
     return tuple(order)
-
-
-def some_plan(below, forest):
-    plan = []
-    for parent in forest.parents:
-        plan.append(1 if parent is None else 1 + below(plan[parent] + 1))
-    return tuple(plan)
-
-
-def stack_by_words(forest, plan, place):
-    parent = forest.parents[place]
-    if parent is None:
-        return (place,)
-    return stack_by_words(forest, plan, parent)[:plan[place] - 1] + (place,)
-
-
-def notes_by_words(forest, plan):
-    """The notes of a plan by the words of [3.2]."""
-    everywhere = range(len(forest.parents))
-    stacks = [stack_by_words(forest, plan, place) for place in everywhere]
-    found = []
-    for s in everywhere:
-        at = stacks[s].index(s)
-        ahead = stacks[s][at - 1] if at else None
-        places = tuple([i for i in forest.bearing if is_over(forest, i, s) and (
-            ahead is None or i != ahead and is_over(forest, ahead, i))])
-        asks = tuple([j for j in forest.asking if s in stacks[j]])
-        if places and asks:
-            found.append((places, asks))
-    return tuple(found)
 
 
 class CutsTest(unittest.TestCase):

@@ -10,6 +10,8 @@ S = row(2)
 MIXED = Forest((None, 0, None, 1, 1, 2), (0, 1, 2, 4), (0, 2, 3, 4))
 LONE = Forest((None,), (), ())
 BIG = 10 ** 59
+# The greatest price.
+MOST = 10 ** 6
 
 
 def nested(depth, kind):
@@ -274,4 +276,29 @@ def near_numbers(thing, most):
              {0: first, 1: second}]
     for wrong in (-1, most + 1, -BIG, BIG, True, False, None, "0", (0,), [0], (), nested(38, "tuple")):
         found += [((wrong,) + first[1:], second), (first, second[:-1] + (wrong,))]
+    return found
+
+
+def some_prices(below, places):
+    """Prices by chance: alike, many of them 0, small ones, or up to the greatest."""
+    kind = below(5)
+    if kind == 0:
+        return ((below(3),) * places, (1 + below(2),) * places)
+    if kind == 1:
+        return tuple([tuple([0 if below(2) else below(3) for _ in range(places)]) for _ in range(2)])
+    bound = 4 if kind == 2 else 30 if kind == 3 else MOST + 1
+    return tuple([tuple([below(bound) for _ in range(places)]) for _ in range(2)])
+
+
+def split_by_words(prices, notes):
+    changes, asks = prices
+    return (sum(changes[i] for places, _ in notes for i in places), sum(asks[j] for _, read in notes for j in read))
+
+
+def costs_by_words(forest, prices):
+    """The list of all plans with their notes and the two parts of their costs."""
+    found = []
+    for plan in plans_by_words(forest):
+        notes = notes_by_words(forest, plan)
+        found.append((plan, notes, split_by_words(prices, notes)))
     return found

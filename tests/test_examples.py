@@ -7,6 +7,7 @@ from cutnotes.counting import count_plans, plan_at
 from cutnotes.forests import Forest, pairs, row, under, way
 from cutnotes.notes import lacking, point
 from cutnotes.plans import notes_of, plan_of, stack
+from cutnotes.prices import cheapest, count_cheapest, least_price
 from cutnotes.unders import high, low
 
 
@@ -44,6 +45,11 @@ class Examples(unittest.TestCase):
     def test_e06(self):
         self.assertEqual(plan_within(self.r, ((1, 2, 1), (1, 2, 2))), (1, 2, 2))
         self.assertIsNone(plan_within(self.r, ((1, 1, 1), (1, 2, 2))))
+
+    def test_e07(self):
+        self.assertEqual(least_price(self.s, ((1, 1), (1, 1))), 5)
+        self.assertEqual(cheapest(self.s, ((1, 1), (1, 1))), (1, 1))
+        self.assertEqual(count_cheapest(self.s, ((1, 1), (1, 1))), 2)
 
 
 if __name__ == "__main__":

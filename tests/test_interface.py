@@ -4,7 +4,8 @@ import ast
 import inspect
 import unittest
 
-from cutnotes import budgets, counting, errors, forests, notes, plans, reaching, unders
+from cutnotes import (
+    bars, budgets, counting, errors, floors, forests, notes, plans, points, prices, reaching, unders)
 
 LISTED = {
     forests: {"Forest": "parents bearing asking", "way": "forest place", "under": "forest place",
@@ -19,6 +20,11 @@ LISTED = {
              "is_under": "forest notes thing"},
     budgets: {"plan_within": "forest budgets"},
     reaching: {"reaches": "forest budgets", "is_reaches": "forest budgets thing"},
+    bars: {"bar": "forest budgets", "is_bar": "forest budgets thing"},
+    prices: {"price_of": "forest prices notes", "least_price": "forest prices", "count_cheapest": "forest prices",
+             "cheapest": "forest prices", "cheapest_keeping": "forest prices notes", "corners": "forest prices"},
+    floors: {"floor": "forest prices", "is_floor": "forest prices thing", "borne": "forest prices thing"},
+    points: {"least_points": "forest", "beaten": "forest notes"},
     errors: {"NoteError": None, "BadForest": "part at", "TooMany": "most", "NoAnswer": "place",
              "BadText": "line", "NoPlace": "", "Stopped": ""},
 }

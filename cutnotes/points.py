@@ -9,17 +9,11 @@ def least_points(forest):
     """The ascending list of the points of plans below which no keeper has another one."""
     told = {point_of(forest, notes_of(forest, plan)): True for plan in all_plans(forest)}
     found = []
-    # What is below another point has a lesser sum: each is compared with those of lesser sums alone.
-    for one in sorted(told, key=_sum_of):
+    # What is at no place greater than a point is not behind it: all that could be below is looked at already.
+    for one in sorted(told):
         if not any([is_within(other, one) for other in found]):
             found.append(one)
-    return sorted(found)
-
-
-def _sum_of(one):
-    """All touches and reads of a point, added."""
-    touches, reads = one
-    return sum(touches) + sum(reads)
+    return found
 
 
 def beaten(forest, notes):

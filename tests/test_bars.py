@@ -301,6 +301,8 @@ class IsBarTest(unittest.TestCase):
                     nested(39, "tuple"), ((0,), (0,), nested(37, "tuple")), ((BIG,), (0,), (0,))]:
             for reasons in ((("touch", 0),), (("touch", 0), ("touch", 0)), (), (("read", 0),)):
                 self.assertFalse(self.judged(S, BUDGETS, {**told, key: reasons}))
+            # Not even where each is the reason of another one, or of its own.
+            self.assertFalse(self.judged(S, BUDGETS, {**told, key: (("case", key),)}))
         forest = Forest((None, 0, 0, 1), (0, 1, 2, 3), (0, 1, 2, 3))
         budgets = ((0,) * 4, (0,) * 4)
         told = bar(forest, budgets)

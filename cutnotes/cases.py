@@ -49,7 +49,7 @@ def led_to(cutting, case, s):
         touches_left[i] -= 1
     for j in asks:
         reads_left[j] -= 1
-    return [(part, tuple([touches_left[i] for i in part]), tuple([reads_left[j] for j in part]))
+    return [(part, tuple([touches_left[place] for place in part]), tuple([reads_left[place] for place in part]))
             for part in cutting.parts(piece, s)]
 
 

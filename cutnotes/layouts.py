@@ -9,14 +9,9 @@ MOST_PRICE = 1000000
 MOST_PLACES_PRICED = 12
 
 
-def is_prices(forest, thing):
-    """Whether a thing is prices of the forest."""
-    return is_pair_of_numbers(thing, len(forest.parents), MOST_PRICE)
-
-
 def check_prices(forest, prices):
-    """Raises the error that is due if these are no prices."""
-    if not is_prices(forest, prices):
+    """Raises the error that is due if these are no prices of the forest."""
+    if not is_pair_of_numbers(prices, len(forest.parents), MOST_PRICE):
         raise NoPrices()
 
 

@@ -1,7 +1,7 @@
 """Forests: places in a hierarchy, some of which bear amounts, some of which ask."""
 
 from cutnotes.errors import BadForest, NoNumber, NoPlace
-from cutnotes.kinds import is_between, is_lot
+from cutnotes.kinds import is_between, is_integer, is_lot
 
 MOST_PLACES = 60
 
@@ -37,6 +37,16 @@ def _is_lot_of_places(thing, many):
 def is_place(forest, thing):
     """Whether a thing is a place of the forest."""
     return is_between(thing, 0, len(forest.parents) - 1)
+
+
+def is_bearing(forest, thing):
+    """Whether a thing is a bearing place of the forest."""
+    return is_integer(thing) and thing in forest.bearing
+
+
+def is_asking(forest, thing):
+    """Whether a thing is an asking place of the forest."""
+    return is_integer(thing) and thing in forest.asking
 
 
 def way(forest, place):

@@ -91,9 +91,19 @@ def notes_of(forest, plan):
     """The notes of a plan, by ascending places at which they are."""
     if not is_plan(forest, plan):
         raise NoPlan()
+    held = notes_by_place(forest, plan)
+    return tuple([held[s] for s in held])
+
+
+def notes_by_place(forest, plan):
+    """The dict from the places s at which there are notes, ascending, to these, by what is known to be a plan."""
     found = _stacks(forest, plan)
-    notes = [_note_at(forest, found, place) for place in range(len(plan))]
-    return tuple([(places, asks) for places, asks in notes if places and asks])
+    held = {}
+    for s in range(len(plan)):
+        places, asks = _note_at(forest, found, s)
+        if places and asks:
+            held[s] = (places, asks)
+    return held
 
 
 def _note_at(forest, found, place):

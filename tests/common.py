@@ -3,12 +3,14 @@
 from itertools import combinations, permutations, product
 
 from cutnotes.forests import Forest, row
+from cutnotes.stores import Store
 
 H = Forest((None, 0, 0, 1), (0, 1, 2, 3), (0, 1, 2, 3))
 S = row(2)
 # Two roots, one of them alone; place 1 only bears, 3 only asks, 5 does neither.
 MIXED = Forest((None, 0, None, 1, 1, 2), (0, 1, 2, 4), (0, 2, 3, 4))
 LONE = Forest((None,), (), ())
+A_STORE = Store(S, (1, 1), (0, 1), max)
 BIG = 10 ** 59
 # The greatest price.
 MOST = 10 ** 6
@@ -35,6 +37,7 @@ def odd_things():
         ((0,), [0]), (1, 0), (0, 0), (-1, 0), (0, BIG, BIG), ("a", "b"), (None,) * 3,
         int, tuple, len, a_function, lambda: 0, object(), Ellipsis, NotImplemented, slice(0, 2),
         iter([0]), (item for item in (0,)), ValueError("x"), H, S, LONE, (H,), [S], {0: H},
+        A_STORE, (A_STORE,), [A_STORE],
         nested(40, "list"), nested(40, "tuple"), nested(40, "dict"),
         (0,) * 20000, [0] * 20000, ("x",) * 20000, {at: at for at in range(9000)},
         ([0] * 9000, (None,) * 9000),
@@ -183,11 +186,11 @@ def stack_by_words(forest, plan, place):
     return stack_by_words(forest, plan, parent)[:plan[place] - 1] + (place,)
 
 
-def notes_by_words(forest, plan):
-    """The notes of a plan by the words of [3.2]."""
+def placed_notes(forest, plan):
+    """The dict from the places at which there are notes to these, by the words of [3.2]."""
     everywhere = range(len(forest.parents))
     stacks = [stack_by_words(forest, plan, place) for place in everywhere]
-    found = []
+    found = {}
     for s in everywhere:
         at = stacks[s].index(s)
         ahead = stacks[s][at - 1] if at else None
@@ -195,8 +198,13 @@ def notes_by_words(forest, plan):
             ahead is None or i != ahead and is_over(forest, ahead, i))])
         asks = tuple([j for j in forest.asking if s in stacks[j]])
         if places and asks:
-            found.append((places, asks))
-    return tuple(found)
+            found[s] = (places, asks)
+    return found
+
+
+def notes_by_words(forest, plan):
+    """The notes of a plan by the words of [3.2]."""
+    return tuple(placed_notes(forest, plan).values())
 
 
 def point_by_words(forest, notes):
@@ -250,6 +258,12 @@ def all_notes(forest):
     served = pairs_by_words(forest)
     return [(places, asks) for places in everywhere for asks in everywhere
             if places and asks and all((i, j) in served for i in places for j in asks)]
+
+
+def lacking_by_words(forest, notes):
+    """The least pair that is in none of the notes, or None."""
+    short = [(i, j) for i, j in pairs_by_words(forest) if not any(i in a and j in b for a, b in notes)]
+    return short[0] if short else None
 
 
 def some_keeper(below, forest, many):

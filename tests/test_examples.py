@@ -8,6 +8,9 @@ from cutnotes.forests import Forest, pairs, row, under, way
 from cutnotes.notes import lacking, point
 from cutnotes.plans import notes_of, plan_of, stack
 from cutnotes.prices import cheapest, count_cheapest, least_price
+from cutnotes.rowwise import longest_row, weights
+from cutnotes.stores import Store
+from cutnotes.tables import crossing
 from cutnotes.unders import high, low
 
 
@@ -50,6 +53,16 @@ class Examples(unittest.TestCase):
         self.assertEqual(least_price(self.s, ((1, 1), (1, 1))), 5)
         self.assertEqual(cheapest(self.s, ((1, 1), (1, 1))), (1, 1))
         self.assertEqual(count_cheapest(self.s, ((1, 1), (1, 1))), 2)
+
+    def test_e08(self):
+        self.assertEqual(weights(self.s, [((0,), (0, 1)), ((1,), (1,))]), (1,))
+        self.assertEqual(longest_row(2, 2), 5)
+
+    def test_e09(self):
+        self.assertEqual(crossing(((0, 1), (1, 2))), (0, 1))
+
+    def test_e10(self):
+        self.assertEqual(Store(self.s, (1, 2), ("a", "b"), lambda one, other: one + other).ask(1), "ab")
 
 
 if __name__ == "__main__":

@@ -5,7 +5,8 @@ import inspect
 import unittest
 
 from cutnotes import (
-    bars, budgets, counting, errors, floors, forests, notes, plans, points, prices, reaching, unders)
+    bars, budgets, counting, errors, floors, forests, notes, plans, points, prices, reaching, rowwise, stores,
+    strangers, tables, unders)
 
 LISTED = {
     forests: {"Forest": "parents bearing asking", "way": "forest place", "under": "forest place",
@@ -25,8 +26,23 @@ LISTED = {
              "cheapest": "forest prices", "cheapest_keeping": "forest prices notes", "corners": "forest prices"},
     floors: {"floor": "forest prices", "is_floor": "forest prices thing", "borne": "forest prices thing"},
     points: {"least_points": "forest", "beaten": "forest notes"},
+    rowwise: {"weights": "forest notes", "is_unbeatable": "forest notes", "longest_row": "touches reads",
+              "plan_by_reads": "forest reads", "plan_by_touches": "forest touches"},
+    tables: {"is_table": "thing", "crossing": "table", "forest_of": "table"},
+    strangers: {"told_notes": "forest touching reading", "wrong_pair": "forest touching reading"},
+    stores: {"Store": "forest plan amounts adding"},
     errors: {"NoteError": None, "BadForest": "part at", "TooMany": "most", "NoAnswer": "place",
              "BadText": "line", "NoPlace": "", "Stopped": ""},
+}
+
+# Of each class the methods, which stand in itself, with their arguments.
+METHODS = {
+    stores.Store: {
+        "change": "place amount", "change_all": "changes", "ask": "place", "amount": "place", "kept": "",
+        "touched": "", "asked": "", "watch": "place", "unwatch": "place", "watched": "", "news": "", "forest": "",
+        "plan": "", "hang": "parent level asks amounts", "turn": "forest plan amounts", "mark": "",
+        "ask_at": "mark place", "back_to": "mark", "drop": "mark", "marks": "", "held": "", "copy": "",
+        "trying": "action"},
 }
 
 
@@ -45,6 +61,12 @@ class Interface(unittest.TestCase):
                 if parameters is not None:
                     found = inspect.signature(getattr(module, name)).parameters
                     self.assertEqual(" ".join(found), parameters, name)
+
+    def test_methods_stand_in_their_classes(self):
+        for owner, methods in METHODS.items():
+            for name, parameters in methods.items():
+                found = inspect.signature(vars(owner)[name]).parameters
+                self.assertEqual(" ".join(found), ("self " + parameters).strip(), name)
 
     def test_equality_stands_in_forest_itself(self):
         self.assertIn("__eq__", vars(forests.Forest))

@@ -4,6 +4,7 @@ from itertools import combinations, permutations, product
 
 from cutnotes.forests import Forest, row
 from cutnotes.stores import Store
+from cutnotes.vaults import Medium, begun
 
 H = Forest((None, 0, 0, 1), (0, 1, 2, 3), (0, 1, 2, 3))
 S = row(2)
@@ -11,6 +12,8 @@ S = row(2)
 MIXED = Forest((None, 0, None, 1, 1, 2), (0, 1, 2, 4), (0, 2, 3, 4))
 LONE = Forest((None,), (), ())
 A_STORE = Store(S, (1, 1), (0, 1), max)
+A_MEDIUM = Medium()
+A_VAULT = begun(A_MEDIUM, S, (1, 1), (0, 1), max)
 BIG = 10 ** 59
 # The greatest price.
 MOST = 10 ** 6
@@ -37,7 +40,7 @@ def odd_things():
         ((0,), [0]), (1, 0), (0, 0), (-1, 0), (0, BIG, BIG), ("a", "b"), (None,) * 3,
         int, tuple, len, a_function, lambda: 0, object(), Ellipsis, NotImplemented, slice(0, 2),
         iter([0]), (item for item in (0,)), ValueError("x"), H, S, LONE, (H,), [S], {0: H},
-        A_STORE, (A_STORE,), [A_STORE],
+        A_STORE, (A_STORE,), [A_STORE], A_MEDIUM, A_VAULT, (A_MEDIUM, A_VAULT),
         nested(40, "list"), nested(40, "tuple"), nested(40, "dict"),
         (0,) * 20000, [0] * 20000, ("x",) * 20000, {at: at for at in range(9000)},
         ([0] * 9000, (None,) * 9000),

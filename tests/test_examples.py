@@ -1,4 +1,4 @@
-"""The examples of the document that have landed."""
+"""The examples of the document."""
 
 import unittest
 
@@ -11,7 +11,10 @@ from cutnotes.prices import cheapest, count_cheapest, least_price
 from cutnotes.rowwise import longest_row, weights
 from cutnotes.stores import Store
 from cutnotes.tables import crossing
+from cutnotes.texts import forest_text
 from cutnotes.unders import high, low
+from cutnotes.vaults import seen
+from cutnotes.weaving import woven
 
 
 class Examples(unittest.TestCase):
@@ -63,6 +66,15 @@ class Examples(unittest.TestCase):
 
     def test_e10(self):
         self.assertEqual(Store(self.s, (1, 2), ("a", "b"), lambda one, other: one + other).ask(1), "ab")
+
+    def test_e11(self):
+        self.assertEqual(seen(self.s, (1, 1), 0, 1), (1,))
+        told = woven(self.s, (1, 1), ("a", "b"), lambda one, other: one + other,
+                     [("change", 0, "c"), ("ask", 1)], [0, 1, 0])
+        self.assertEqual(told, (("change", 0, 0, "c"), ("ask", 1, 1), ("told", 1, "cb"), ("done", 0)))
+
+    def test_e12(self):
+        self.assertEqual(forest_text(self.h), "- b a\n0 b a\n0 b a\n1 b a\n")
 
 
 if __name__ == "__main__":

@@ -5,8 +5,8 @@ import inspect
 import unittest
 
 from cutnotes import (
-    bars, budgets, counting, errors, floors, forests, notes, plans, points, prices, reaching, rowwise, stores,
-    strangers, tables, unders)
+    bars, budgets, counting, errors, floors, forests, notes, plans, points, prices, reaching, reading, rowwise,
+    stores, strangers, tables, texts, unders, vaults, weaving)
 
 LISTED = {
     forests: {"Forest": "parents bearing asking", "way": "forest place", "under": "forest place",
@@ -31,6 +31,12 @@ LISTED = {
     tables: {"is_table": "thing", "crossing": "table", "forest_of": "table"},
     strangers: {"told_notes": "forest touching reading", "wrong_pair": "forest touching reading"},
     stores: {"Store": "forest plan amounts adding"},
+    vaults: {"Medium": "", "Vault": "medium forest plan adding", "begun": "medium forest plan amounts adding",
+             "seen": "forest plan place many"},
+    weaving: {"is_history": "forest thing", "wrong_answer": "forest amounts adding history",
+              "woven": "forest plan amounts adding deeds turns"},
+    texts: {"forest_text": "forest", "plan_text": "forest plan", "notes_text": "forest notes"},
+    reading: {"read_forest": "text", "read_plan": "forest text", "read_notes": "forest text"},
     errors: {"NoteError": None, "BadForest": "part at", "TooMany": "most", "NoAnswer": "place",
              "BadText": "line", "NoPlace": "", "Stopped": ""},
 }
@@ -43,6 +49,8 @@ METHODS = {
         "plan": "", "hang": "parent level asks amounts", "turn": "forest plan amounts", "mark": "",
         "ask_at": "mark place", "back_to": "mark", "drop": "mark", "marks": "", "held": "", "copy": "",
         "trying": "action"},
+    vaults.Medium: {"cells": "", "write": "cell thing", "power": "writes", "written": ""},
+    vaults.Vault: {"change_all": "changes", "recover": "", "ask": "place"},
 }
 
 

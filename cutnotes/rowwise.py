@@ -70,7 +70,7 @@ def plan_by_touches(forest, touches):
     """The plan of a row whose notes have these touches, or None."""
     _check_numbers(forest, touches)
     # Seen from its other end a row has touches for reads; the cuts stay the same ones.
-    mirrored = tuple([*reversed(touches)])
+    mirrored = tuple(reversed(touches))
     if not is_plan(forest, mirrored):
         return None
     last = len(touches) - 1

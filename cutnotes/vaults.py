@@ -133,7 +133,7 @@ def seen(forest, plan, place, many):
     if not is_bearing(forest, place):
         raise NoPlace()
     notes = notes_by_place(forest, plan)
-    written = [*reversed(holding_one(notes, [place]))]
+    written = list(reversed(holding_one(notes, [place])))
     if not is_between(many, 0, len(written)):
         raise NoNumber()
     return tuple(sorted([j for s in written[:many] for j in notes[s][1]]))

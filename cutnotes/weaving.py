@@ -101,7 +101,7 @@ class Loom:
         self.notes = notes
         self.amounts = amounts
         self.adding = adding
-        self.held = {s: self.put_together(s) for s in notes}
+        self.sums = {s: self.put_together(s) for s in notes}
         self.events = []
         # For each deed that is begun the notes that it has still ahead; for each ask what it read.
         self.ahead = {}
@@ -127,7 +127,7 @@ class Loom:
         self.events.append((deed[0], k, *deed[1:]))
         if deed[0] == "change":
             self.amounts[deed[1]] = deed[2]
-            self.ahead[k] = [*reversed(holding_one(self.notes, [deed[1]]))]
+            self.ahead[k] = list(reversed(holding_one(self.notes, [deed[1]])))
         else:
             self.ahead[k] = reading_at(self.notes, deed[1])
             self.read[k] = []
@@ -136,9 +136,9 @@ class Loom:
         """Goes on by one note."""
         s = self.ahead[k].pop(0)
         if deed[0] == "change":
-            self.held[s] = self.put_together(s)
+            self.sums[s] = self.put_together(s)
         else:
-            self.read[k].append(self.held[s])
+            self.read[k].append(self.sums[s])
 
     def end(self, k, deed):
         """Ends a deed: an ask tells what it read."""

@@ -128,7 +128,7 @@ class Language(unittest.TestCase):
 
     def test_what_is_iterated_at_once(self):
         for name, node in walked():
-            given = [node.value] if isinstance(node, (ast.Assign, ast.Return, ast.AugAssign)) else []
+            given = [node.value] if isinstance(node, (ast.Assign, ast.Return, ast.AugAssign, ast.Starred)) else []
             if isinstance(node, ast.Call) and not (isinstance(node.func, ast.Name) and node.func.id in vars(builtins)):
                 given = node.args
             for value in given:

@@ -1,9 +1,9 @@
 """Prices: what the cheapest notes cost, which plans they are, and all trades between the two parts."""
 
 from cutnotes.errors import NoNotes
-from cutnotes.layouts import (
-    Layout, charged, check_prices, check_size, count_least, least_in_all, least_plan, note_cost, split_cost)
+from cutnotes.layouts import note_cost
 from cutnotes.notes import is_notes
+from cutnotes.pricing import check_prices, laid_out
 
 
 def price_of(forest, prices, notes):
@@ -14,33 +14,27 @@ def price_of(forest, prices, notes):
     return sum([note_cost(prices, note) for note in notes])
 
 
-def _by_prices(layout, prices):
-    """What all cuts cost by prices."""
-    return charged(layout, lambda note: note_cost(prices, note))
-
-
 def least_price(forest, prices):
     """The least cost of a plan's notes."""
     check_prices(forest, prices)
-    check_size(forest)
-    layout = Layout(forest)
-    return least_in_all(layout, _by_prices(layout, prices))
+    return laid_out(forest).least_in_all(prices)
 
 
 def cheapest(forest, prices):
     """The least plan of the least price."""
     check_prices(forest, prices)
-    check_size(forest)
-    layout = Layout(forest)
-    return least_plan(layout, _by_prices(layout, prices))
+    return laid_out(forest).least_plan(prices, {})
 
 
 def count_cheapest(forest, prices):
     """The number of the plans of the least price."""
     check_prices(forest, prices)
-    check_size(forest)
-    layout = Layout(forest)
-    return count_least(layout, _by_prices(layout, prices))
+    return laid_out(forest).count_least(prices)
+
+
+def _times(factor, numbers):
+    """All numbers multiplied by a factor."""
+    return [factor * number for number in numbers]
 
 
 def cheapest_keeping(forest, prices, notes):
@@ -48,30 +42,27 @@ def cheapest_keeping(forest, prices, notes):
     check_prices(forest, prices)
     if not is_notes(forest, notes):
         raise NoNotes()
-    check_size(forest)
-    layout = Layout(forest)
+    layout = laid_out(forest)
     kept = {places: True for places, asks in notes}
     # A plan has fewer notes than that: so all that it keeps weighs less than a price of 1.
     weight = len(forest.parents) + 1
-    costs = charged(layout, lambda note: note_cost(prices, note) * weight - (1 if note[0] in kept else 0))
-    return least_plan(layout, costs)
+    changes, asks = prices
+    return layout.least_plan((_times(weight, changes), _times(weight, asks)), kept)
 
 
 def corners(forest, prices):
     """The ascending list of the pairs of costs that are alone the least for some fraction."""
     check_prices(forest, prices)
-    check_size(forest)
-    layout = Layout(forest)
-    splits = charged(layout, lambda note: split_cost(prices, note))
+    layout = laid_out(forest)
     # Greater than each part that a plan can cost: who multiplies by it looks at one part first.
     above = 1 + len(forest.parents) ** 2 * max([*prices[0], *prices[1]])
-    first = _least_pair(layout, splits, above, above, 1)
-    last = _least_pair(layout, splits, above, 1, above)
+    first = _least_pair(layout, prices, above, above, 1)
+    last = _least_pair(layout, prices, above, 1, above)
     found = [first]
     waiting = [(first, last)] if first != last else []
     while waiting:
         one, other = waiting.pop()
-        between = _least_pair(layout, splits, above, one[1] - other[1], other[0] - one[0])
+        between = _least_pair(layout, prices, above, one[1] - other[1], other[0] - one[0])
         # If nothing lies below the line through both, the first one of it is the least again.
         if between == one:
             found.append(other)
@@ -80,9 +71,10 @@ def corners(forest, prices):
     return sorted(found)
 
 
-def _least_pair(layout, splits, above, changes_weight, asks_weight):
+def _least_pair(layout, prices, above, changes_weight, asks_weight):
     """The pair of costs that is least by the weights of its parts; of several the one of least changes."""
-    costs = [[(changes_weight * changes + asks_weight * asks) * above + changes for changes, asks in splits_there]
-             for splits_there in splits]
-    weighed, changes_part = divmod(least_in_all(layout, costs), above)
-    return (changes_part, (weighed - changes_weight * changes_part) // asks_weight)
+    changes, asks = prices
+    # Changes come in twice: by their weight, and once more below all that is weighed.
+    weighed = (_times(changes_weight * above + 1, changes), _times(asks_weight * above, asks))
+    whole, changes_part = divmod(layout.least_in_all(weighed), above)
+    return (changes_part, (whole - changes_weight * changes_part) // asks_weight)

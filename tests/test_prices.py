@@ -55,15 +55,35 @@ class PricesTest(unittest.TestCase):
         notes = some_keeper(below, forest, below(6))[below(3):]
         if below(2):
             notes += list(told[below(len(told))][1])
+        return self.keeping_fits(forest, prices, told, right, notes)
+
+    def keeping_fits(self, forest, prices, told, right, notes):
         best = None
         for plan, own, _ in told:
             if plan in right:
                 kept = sum(any(places == other for other, _ in notes) for places, _ in own)
                 if best is None or kept > best[0]:
                     best = (kept, plan)
-        for given in (notes, tuple(notes), notes + notes):
+        for given in (list(notes), tuple(notes), list(notes) * 2):
             self.assertEqual(cheapest_keeping(forest, prices, given), best[1])
         return best[1] != min(right)
+
+    def test_kept_notes_never_outweigh_a_price(self):
+        below = chance(86)
+        tried = 0
+        near_rows = [Forest(row(places).parents + (0,), tuple(range(places + 1)), tuple(range(places)))
+                     for places in (4, 5, 6)]
+        for forest in [row(5), row(6), row(7), long_forest(below, 6), H] + near_rows:
+            many = len(forest.parents)
+            for prices in [((1,) * many, (1,) * many), ((0,) * many, (1,) * many)] + [
+                    tuple([tuple([below(2) for _ in range(many)]) for _ in range(2)]) for _ in range(6)]:
+                told, right = self.judged(forest, prices)
+                least = least_price(forest, prices)
+                dearer = [own for _, own, (a, b) in told if a + b == least + 1]
+                for notes in dearer[:20]:
+                    self.keeping_fits(forest, prices, told, right, notes)
+                    tried += 1
+        self.assertGreater(tried, 100)
 
     def test_tiny_forests(self):
         below = chance(81)

@@ -47,7 +47,7 @@ class SpanSums:
 
 
 class Spans:
-    """All spans of a row; it tells what a Layout of all pieces tells, as quick as rows allow."""
+    """All spans of a row; it tells what a Layout of the row tells, in a fraction of the time."""
 
     def __init__(self, places):
         # Ahead of each span stand all those within it.

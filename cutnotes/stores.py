@@ -130,9 +130,10 @@ class Store:
         number = len(before.parents)
         if number == MOST_PLACES:
             raise TooMany(MOST_PLACES)
-        hung = Forest((*before.parents, parent), (*before.bearing, number) if amounts else before.bearing,
-                      (*before.asking, number) if asks else before.asking)
-        self._turn(hung, (*self._state.levels, level), {number: amount for amount in amounts})
+        bearing = before.bearing + (number,) if amounts else before.bearing
+        asking = before.asking + (number,) if asks else before.asking
+        hung = Forest(before.parents + (parent,), bearing, asking)
+        self._turn(hung, self._state.levels + (level,), {number: amount for amount in amounts})
         return number
 
     def turn(self, forest, plan, amounts):

@@ -124,7 +124,7 @@ class Loom:
 
     def begin(self, k, deed):
         """Begins a deed: a change sets its amount."""
-        self.events.append((deed[0], k, *deed[1:]))
+        self.events.append((deed[0], k) + deed[1:])
         if deed[0] == "change":
             self.amounts[deed[1]] = deed[2]
             self.ahead[k] = list(reversed(holding_one(self.notes, [deed[1]])))

@@ -57,16 +57,29 @@ class SpansTest(unittest.TestCase):
 
     def test_corners(self):
         below = chance(313)
-        for places in list(range(1, 11)) * 2 + [14]:
-            prices = some_prices(below, places)
-            told = corners(row(places), prices)
-            layout = Layout(row(places))
-            # What is least for some fraction is a corner, alone or with others: by prices of whole numbers.
-            for top, bottom in ((1, 1), (1, 2), (3, 1), (7, 5), (1, 9), (50, 1), (1, 10 ** 7), (10 ** 7, 1)):
-                weighed = (tuple([bottom * price for price in prices[0]]), tuple([top * price for price in prices[1]]))
-                self.assertEqual(min(bottom * one + top * other for one, other in told), layout.least_in_all(weighed))
-            for (one, other), (later, less) in zip(told, told[1:]):
-                self.assertTrue(one < later and other > less)
+        for places in list(range(1, 15)) * 2 + [24, 33]:
+            self.corners_fit(places, some_prices(below, places), 1)
+        # There are more than a hundred: some of them will do.
+        self.corners_fit(60, ((3,) * 60, (5,) * 60), 7)
+
+    def corners_fit(self, places, prices, apart):
+        """Judges corners by the least costs that all pieces, laid out one by one, tell for some fractions."""
+        layout = Layout(row(places))
+        told = corners(row(places), prices)
+
+        def least(changes_weight, asks_weight):
+            return layout.least_in_all((tuple([changes_weight * price for price in prices[0]]),
+                                        tuple([asks_weight * price for price in prices[1]])))
+        # Each is alone the least for some fraction: from one to the next one it goes down, ever less steeply.
+        steps = [(b[0] - a[0], a[1] - b[1]) for a, b in zip(told, told[1:])]
+        self.assertTrue(all(right > 0 and down > 0 for right, down in steps))
+        self.assertTrue(all(a[1] * b[0] > b[1] * a[0] for a, b in zip(steps, steps[1:])))
+        # No plan is below the line from one to the next one, nor beyond the ends.
+        for (one, other), (right, down) in list(zip(told, steps))[::apart]:
+            self.assertEqual(least(down, right), down * one + right * other)
+        above = 1 + places ** 2 * max(prices[0] + prices[1])
+        self.assertEqual(least(above, 1), above * told[0][0] + told[0][1])
+        self.assertEqual(least(1, above), told[-1][0] + above * told[-1][1])
 
     def test_60_places_by_what_is_known(self):
         # Whatever the prices of each place, these plans cost what the floor bears, which nothing goes below.
